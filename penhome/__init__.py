@@ -1,0 +1,1 @@
+"""Penhome: equations between all runs of drawing programs."""

@@ -1,0 +1,65 @@
+"""Matrices of seven rows and seven columns, as lists of 49 integers."""
+
+from penhome.errors import NoPen
+from penhome.pens import is_pen, moved
+
+
+def vector(pen):
+    """Return the list of 1 and the six numbers of the pen, or raise NoPen."""
+    if not is_pen(pen):
+        raise NoPen()
+    return [1, *pen]
+
+
+def row_of(matrix, i):
+    """Return the seven numbers of row i."""
+    return matrix[7 * i:7 * i + 7]
+
+
+def dot(row, column):
+    """Return the sum of the products of the numbers at the same places."""
+    return sum([a * b for a, b in zip(row, column)])
+
+
+def identity():
+    """Return the matrix that changes nothing."""
+    return [int(i == j) for i in range(7) for j in range(7)]
+
+
+def unit_pen(at):
+    """Return the pen of zeros with a 1 at one place."""
+    return tuple([int(i == at) for i in range(6)])
+
+
+def matrix_of(command):
+    """Return the matrix of the command, or raise NoCommand."""
+    # A command adds fixed numbers to a linear map, so where it takes the pen
+    # of zeros and the six unit pens says all of it. The differences have 0
+    # as their number 0, which makes row 0 come out right.
+    start = vector(moved((0, 0, 0, 0, 0, 0), command))
+    columns = [start]
+    for at in range(6):
+        end = vector(moved(unit_pen(at), command))
+        columns.append([a - b for a, b in zip(end, start)])
+    return [column[i] for i in range(7) for column in columns]
+
+
+def applied(matrix, pen):
+    """Return the pen that the matrix gives, or raise NoPen."""
+    ahead = vector(pen)
+    return tuple([dot(row_of(matrix, i), ahead) for i in range(1, 7)])
+
+
+def composed(one, other):
+    """Return the matrix of one, then other."""
+    columns = [one[j::7] for j in range(7)]
+    rows = [row_of(other, i) for i in range(7)]
+    return [dot(row, column) for row in rows for column in columns]
+
+
+def kept_matrix(matrix):
+    """Return the matrix that only leaves the mark as the given one does."""
+    # The first number stands in place of 1, because only so the result is
+    # linear in the matrix, also where that is not the matrix of a run.
+    middle = [matrix[0] * number for number in identity()[7:35]]
+    return [*matrix[:7], *middle, *matrix[35:]]

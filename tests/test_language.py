@@ -1,0 +1,120 @@
+"""Tests of the form of the package: rules of LANGUAGE.md, and point 59.
+
+Only rules that a few lines can see are checked here.
+"""
+
+import ast
+import builtins
+import pathlib
+import unittest
+
+PACKAGE = pathlib.Path(__file__).resolve().parent.parent / "penhome"
+
+BUILTINS = """
+    len range enumerate zip min max sum abs sorted reversed int str bool bytes list tuple dict set frozenset
+    isinstance ord repr any all divmod pow getattr hasattr setattr iter next map super property staticmethod
+    classmethod object Exception ValueError TypeError KeyError IndexError LookupError ZeroDivisionError
+    ArithmeticError OverflowError RuntimeError NotImplementedError AttributeError StopIteration NotImplemented
+""".split()
+
+LIBRARY = {
+    "heapq": "heappush heappop heapify heapreplace heappushpop".split(),
+    "math": "gcd lcm isqrt comb perm factorial".split(),
+    "itertools": "product combinations permutations chain accumulate pairwise islice zip_longest".split(),
+    "collections": ["defaultdict"],
+    "__future__": ["annotations"],
+}
+
+# What the interface lists under each file, as far as it has been built.
+INTERFACE = {
+    "errors.py": """
+        HomeError NoPen NoCommand NoProcedure NoWay NoPath NoTable NoVariables NoCount NoPart NoNumber
+        NoBook NoCall NoRun NoRows NoEquations NoEquation TooMany NoText
+    """.split(),
+    "pens.py": ["moved"],
+    "matrices.py": ["vector", "matrix_of", "applied", "composed", "kept_matrix"],
+}
+
+
+def files():
+    return sorted(PACKAGE.rglob("*.py"))
+
+
+def trees():
+    return [(path, ast.parse(path.read_text())) for path in files()]
+
+
+def nodes():
+    return [(path, node) for path, tree in trees() for node in ast.walk(tree)]
+
+
+class Files(unittest.TestCase):
+    def test_the_folder_contains_only_python_files(self):
+        found = [path for path in PACKAGE.rglob("*") if "__pycache__" not in path.parts]
+        self.assertTrue((PACKAGE / "__init__.py").is_file())
+        self.assertEqual([path for path in found if path.suffix != ".py"], [])
+
+    def test_characters_and_sizes(self):
+        for path in files():
+            text = path.read_bytes().decode("ascii")
+            lines = text.split("\n")
+            with self.subTest(path=path.name):
+                self.assertTrue(all(char == "\n" or " " <= char <= "~" for char in text))
+                self.assertLessEqual(len(lines), 399)
+                self.assertLessEqual(max(len(line) for line in lines), 120)
+
+    def test_size_of_functions(self):
+        for path, node in nodes():
+            if isinstance(node, ast.FunctionDef):
+                with self.subTest(path=path.name, function=node.name):
+                    self.assertLessEqual(node.end_lineno - node.lineno + 1, 40)
+
+
+class Words(unittest.TestCase):
+    def test_imports(self):
+        for path, node in nodes():
+            self.assertNotIsInstance(node, ast.Import, path.name)
+            if isinstance(node, ast.ImportFrom):
+                names = [alias.name for alias in node.names]
+                with self.subTest(path=path.name, module=node.module):
+                    self.assertEqual(node.level, 0)
+                    if node.module in LIBRARY:
+                        self.assertLessEqual(set(names), set(LIBRARY[node.module]))
+                    else:
+                        self.assertTrue(node.module.startswith("penhome."))
+
+    def test_builtins(self):
+        barred = set(dir(builtins)) - set(BUILTINS)
+        for path, node in nodes():
+            if isinstance(node, ast.Name):
+                self.assertNotIn(node.id, barred, path.name)
+
+    def test_no_builtin_is_given_another_meaning(self):
+        for path, node in nodes():
+            with self.subTest(path=path.name):
+                if isinstance(node, ast.Name) and isinstance(node.ctx, ast.Store):
+                    self.assertNotIn(node.id, dir(builtins))
+                elif isinstance(node, ast.arg):
+                    self.assertNotIn(node.arg, dir(builtins))
+
+    def test_no_floats_and_no_division(self):
+        for path, node in nodes():
+            self.assertNotIsInstance(node, ast.Div, path.name)
+            if isinstance(node, ast.Constant):
+                self.assertNotIsInstance(node.value, (float, complex), path.name)
+
+    def test_module_level(self):
+        allowed = (ast.ImportFrom, ast.FunctionDef, ast.ClassDef, ast.Assign)
+        for path, tree in trees():
+            rest = tree.body[1:] if ast.get_docstring(tree) is not None else tree.body
+            for node in rest:
+                self.assertIsInstance(node, allowed, path.name)
+
+
+class Interface(unittest.TestCase):
+    def test_each_name_is_defined_in_its_file(self):
+        for name, wanted in INTERFACE.items():
+            tree = ast.parse((PACKAGE / name).read_text())
+            found = [node.name for node in tree.body if isinstance(node, (ast.FunctionDef, ast.ClassDef))]
+            with self.subTest(file=name):
+                self.assertLessEqual(set(wanted), set(found))
