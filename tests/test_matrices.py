@@ -7,7 +7,8 @@ from penhome.matrices import applied, composed, kept_matrix, matrix_of, vector
 from penhome.pens import moved
 from samples import BIG, COMMANDS, NO_COMMANDS, NO_PENS, OTHER_BIG, PENS
 
-IDENTITY = [
+# Tuples, so that no function can change what a later test starts from.
+IDENTITY = (
     1, 0, 0, 0, 0, 0, 0,
     0, 1, 0, 0, 0, 0, 0,
     0, 0, 1, 0, 0, 0, 0,
@@ -15,7 +16,7 @@ IDENTITY = [
     0, 0, 0, 0, 1, 0, 0,
     0, 0, 0, 0, 0, 1, 0,
     0, 0, 0, 0, 0, 0, 1,
-]
+)
 
 # Rows that differ from those of the identity, for each command.
 ROWS = [
@@ -40,10 +41,15 @@ ROWS = [
 ]
 
 # 49 different numbers, so that no two places can be mistaken for each other.
-COUNTED = [100 + 3 * at + at * at for at in range(49)]
-MIXED = [(at * 37 + 11) % 53 - 26 for at in range(49)]
-GREAT = [BIG * (at % 5 - 2) + OTHER_BIG * (at % 3) + at for at in range(49)]
-MATRICES = [IDENTITY, [0] * 49, [-2 * number for number in IDENTITY], COUNTED, MIXED, GREAT]
+COUNTED = tuple(100 + 3 * at + at * at for at in range(49))
+MIXED = tuple((at * 37 + 11) % 53 - 26 for at in range(49))
+GREAT = tuple(BIG * (at % 5 - 2) + OTHER_BIG * (at % 3) + at for at in range(49))
+
+
+def matrices():
+    """Return new lists each time."""
+    doubled = [-2 * number for number in IDENTITY]
+    return [list(IDENTITY), [0] * 49, doubled, list(COUNTED), list(MIXED), list(GREAT)]
 
 
 def with_rows(rows):
@@ -115,7 +121,7 @@ class Applied(unittest.TestCase):
                 self.assertEqual(applied(matrix_of(command), pen), moved(pen, command))
 
     def test_any_matrix_on_any_pen(self):
-        for matrix in MATRICES:
+        for matrix in matrices():
             for pen in PENS:
                 behind = applied(matrix, pen)
                 self.assertIs(type(behind), tuple)
@@ -130,11 +136,11 @@ class Applied(unittest.TestCase):
     def test_number_0_of_the_result_is_ignored(self):
         for row in [[1, 0, 0, 0, 0, 0, 0], [0] * 7, [5, 4, 3, 2, 1, 0, -1], [BIG] * 7]:
             for pen in PENS:
-                self.assertEqual(applied(row + IDENTITY[7:], pen), pen)
-                self.assertEqual(applied(row + GREAT[7:], pen), applied(GREAT, pen))
+                self.assertEqual(applied(row + list(IDENTITY[7:]), pen), pen)
+                self.assertEqual(applied(row + list(GREAT[7:]), pen), applied(list(GREAT), pen))
 
     def test_no_pens(self):
-        for matrix in [IDENTITY, [0] * 49, COUNTED]:
+        for matrix in [list(IDENTITY), [0] * 49, list(COUNTED)]:
             for wrong in NO_PENS:
                 with self.subTest(pen=wrong), self.assertRaises(NoPen):
                     applied(matrix, wrong)
@@ -167,19 +173,19 @@ class Composed(unittest.TestCase):
                 self.assertEqual(applied(matrix, pen), moved(moved(pen, one), other), (one, other))
 
     def test_any_matrices(self):
-        for one in MATRICES:
-            for other in MATRICES:
+        for one in matrices():
+            for other in matrices():
                 matrix = composed(one, other)
                 self.assertIs(type(matrix), list)
                 self.assertEqual(matrix, composed_by_definition(one, other))
 
     def test_the_identity_on_either_side(self):
-        for matrix in MATRICES:
-            self.assertEqual(composed(IDENTITY, matrix), matrix)
-            self.assertEqual(composed(matrix, IDENTITY), matrix)
+        for matrix in matrices():
+            self.assertEqual(composed(list(IDENTITY), matrix), matrix)
+            self.assertEqual(composed(matrix, list(IDENTITY)), matrix)
 
     def test_the_same_list_twice(self):
-        for matrix in [*MATRICES, matrix_of(("turn", 1))]:
+        for matrix in [*matrices(), matrix_of(("turn", 1))]:
             before = list(matrix)
             self.assertEqual(composed(matrix, matrix), composed_by_definition(before, before))
             self.assertEqual(matrix, before)
@@ -187,9 +193,9 @@ class Composed(unittest.TestCase):
         self.assertEqual(composed(turn, turn), matrix_of(("turn", 2)))
 
     def test_both_groupings_of_three(self):
-        for one in MATRICES:
-            for two in MATRICES:
-                for three in MATRICES:
+        for one in matrices():
+            for two in matrices():
+                for three in matrices():
                     self.assertEqual(
                         composed(composed(one, two), three), composed(one, composed(two, three)))
 
@@ -216,12 +222,12 @@ class Kept(unittest.TestCase):
                 self.assertEqual(applied(kept_matrix(matrix_of(command)), pen), pen[:4] + behind[4:])
 
     def test_kept_twice_is_kept_once(self):
-        for matrix in MATRICES:
+        for matrix in matrices():
             self.assertEqual(kept_matrix(kept_matrix(matrix)), kept_matrix(matrix))
 
     def test_the_kept_matrix_is_linear(self):
-        for one in MATRICES:
-            for other in MATRICES:
+        for one in matrices():
+            for other in matrices():
                 total = [2 * a - 5 * b for a, b in zip(one, other)]
                 kept = [2 * a - 5 * b for a, b in zip(kept_matrix(one), kept_matrix(other))]
                 self.assertEqual(kept_matrix(total), kept)
@@ -236,12 +242,12 @@ class NewLists(unittest.TestCase):
         lambda one, other: composed(one, list(IDENTITY)),
         lambda one, other: composed(list(IDENTITY), other),
         lambda one, other: kept_matrix(one),
-        lambda one, other: kept_matrix(IDENTITY),
+        lambda one, other: kept_matrix(list(IDENTITY)),
     ]
 
     def test_no_argument_is_changed(self):
-        for one in MATRICES:
-            for other in MATRICES:
+        for one in matrices():
+            for other in matrices():
                 ahead = list(one), list(other)
                 for call in self.CALLS:
                     call(one, other)
@@ -258,7 +264,7 @@ class NewLists(unittest.TestCase):
             answer[0] = "changed"
             answer.clear()
             self.assertEqual(call(one, other), right)
-            self.assertEqual((one, other), (COUNTED, MIXED))
+            self.assertEqual((one, other), (list(COUNTED), list(MIXED)))
 
     def test_no_two_answers_are_the_same_list(self):
         one, other = list(COUNTED), list(MIXED)
