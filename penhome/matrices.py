@@ -1,7 +1,12 @@
 """Matrices of seven rows and seven columns, as lists of 49 integers."""
 
 from penhome.errors import NoPen
-from penhome.pens import is_pen, moved
+from penhome.pens import is_integer, is_pen, moved
+
+
+def is_matrix(thing):
+    """Tell whether a value is a list of 49 integers."""
+    return isinstance(thing, list) and len(thing) == 49 and all([is_integer(number) for number in thing])
 
 
 def vector(pen):
@@ -31,17 +36,24 @@ def unit_pen(at):
     return tuple([int(i == at) for i in range(6)])
 
 
+def probes():
+    """Return the pen of zeros and the six unit pens."""
+    return [(0, 0, 0, 0, 0, 0), *[unit_pen(at) for at in range(6)]]
+
+
+def matrix_from(ends):
+    """Return the matrix that takes the probes, in order, to the given pens."""
+    # What is executed adds fixed numbers to a linear map, so where it takes
+    # the probes says all of it. The differences have 0 as their number 0,
+    # which makes row 0 come out right.
+    start, *others = [vector(end) for end in ends]
+    columns = [start, *[[a - b for a, b in zip(other, start)] for other in others]]
+    return [column[i] for i in range(7) for column in columns]
+
+
 def matrix_of(command):
     """Return the matrix of the command, or raise NoCommand."""
-    # A command adds fixed numbers to a linear map, so where it takes the pen
-    # of zeros and the six unit pens says all of it. The differences have 0
-    # as their number 0, which makes row 0 come out right.
-    start = vector(moved((0, 0, 0, 0, 0, 0), command))
-    columns = [start]
-    for at in range(6):
-        end = vector(moved(unit_pen(at), command))
-        columns.append([a - b for a, b in zip(end, start)])
-    return [column[i] for i in range(7) for column in columns]
+    return matrix_from([moved(pen, command) for pen in probes()])
 
 
 def applied(matrix, pen):

@@ -35,6 +35,11 @@ def is_within(thing, bounds):
     return is_integer(thing) and low <= thing <= high
 
 
+def is_bit(thing):
+    """Tell whether a value is the integer 0 or 1."""
+    return is_within(thing, (0, 1))
+
+
 def is_command(thing):
     """Tell whether a value is one of the nine commands, with its numbers."""
     if not isinstance(thing, tuple) or len(thing) == 0:

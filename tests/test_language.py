@@ -33,6 +33,24 @@ INTERFACE = {
     """.split(),
     "pens.py": ["moved"],
     "matrices.py": ["vector", "matrix_of", "applied", "composed", "kept_matrix"],
+    "books.py": ["Book"],
+    "runs.py": ["ran", "trace", "run_matrix"],
+    "spaces.py": ["Space"],
+}
+
+# The methods that the interface lists for each class, under the names that Python gives to signs.
+METHODS = {
+    "Book": "__init__ __len__ bodies __getitem__ __contains__ calls saved __eq__".split(),
+    "Space": "__init__ rows __len__ __contains__ __add__ __mul__ kept __eq__".split(),
+}
+
+# How the interface lists the arguments.
+ARGUMENTS = {
+    "moved": "pen, command", "vector": "pen", "matrix_of": "command", "applied": "matrix, pen",
+    "composed": "one, other", "kept_matrix": "matrix",
+    "ran": "book, procedure, bits, *, pen=HOME", "trace": "book, procedure, bits, *, pen=HOME",
+    "run_matrix": "book, procedure, bits",
+    "bodies": "self", "calls": "self", "saved": "self, calls", "rows": "self", "kept": "self",
 }
 
 
@@ -103,6 +121,23 @@ class Words(unittest.TestCase):
             if isinstance(node, ast.Constant):
                 self.assertNotIsInstance(node.value, (float, complex), path.name)
 
+    def test_a_loop_stands_in_a_list(self):
+        for path, node in nodes():
+            self.assertNotIsInstance(node, (ast.GeneratorExp, ast.AsyncFor, ast.Global), path.name)
+
+    def test_what_an_operator_may_run(self):
+        # Beside operators, the rules allow += at few places, so it stands nowhere.
+        for path, node in nodes():
+            self.assertNotIsInstance(node, ast.AugAssign, path.name)
+            if isinstance(node, ast.Attribute):
+                self.assertNotEqual(node.attr, "sort", path.name)
+
+    def test_classes_that_are_indexed_say_that_they_are_not_iterated_over(self):
+        for path, node in nodes():
+            if isinstance(node, ast.ClassDef):
+                names = [each.name for each in node.body if isinstance(each, ast.FunctionDef)]
+                self.assertTrue("__getitem__" not in names or "__iter__" in names, path.name)
+
     def test_module_level(self):
         allowed = (ast.ImportFrom, ast.FunctionDef, ast.ClassDef, ast.Assign)
         for path, tree in trees():
@@ -118,3 +153,14 @@ class Interface(unittest.TestCase):
             found = [node.name for node in tree.body if isinstance(node, (ast.FunctionDef, ast.ClassDef))]
             with self.subTest(file=name):
                 self.assertLessEqual(set(wanted), set(found))
+
+    def test_each_method_is_defined_in_its_class(self):
+        for path, node in nodes():
+            if isinstance(node, ast.ClassDef) and node.name in METHODS:
+                found = [each.name for each in node.body if isinstance(each, ast.FunctionDef)]
+                self.assertLessEqual(set(METHODS[node.name]), set(found))
+
+    def test_arguments(self):
+        found = {node.name: ast.unparse(node.args) for _, node in nodes() if isinstance(node, ast.FunctionDef)}
+        for name, wanted in ARGUMENTS.items():
+            self.assertEqual(found[name], wanted)
