@@ -8,7 +8,7 @@ from penhome.matrices import composed, is_matrix, kept_matrix
 
 def pivot_of(row):
     """Return the item of the first number that is not 0; there is one."""
-    return [number != 0 for number in row].index(True)
+    return min([at for at, number in enumerate(row) if number != 0])
 
 
 def primitive(row):
