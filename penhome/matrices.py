@@ -62,11 +62,20 @@ def applied(matrix, pen):
     return tuple([dot(row_of(matrix, i), ahead) for i in range(1, 7)])
 
 
+def rows_behind(one, rows):
+    """Return rows of the matrix of one, then other; rows are the same rows of other."""
+    # The sum is written out because most of the time of a search is spent here.
+    columns = [one[j::7] for j in range(7)]
+    return [
+        [a * h + b * i + c * j + d * k + e * m + f * n + g * o for h, i, j, k, m, n, o in columns]
+        for a, b, c, d, e, f, g in rows
+    ]
+
+
 def composed(one, other):
     """Return the matrix of one, then other."""
-    columns = [one[j::7] for j in range(7)]
-    rows = [row_of(other, i) for i in range(7)]
-    return [dot(row, column) for row in rows for column in columns]
+    rows = rows_behind(one, [row_of(other, i) for i in range(7)])
+    return [number for row in rows for number in row]
 
 
 def kept_matrix(matrix):

@@ -4,6 +4,7 @@ from math import gcd
 
 from penhome.errors import NoRows
 from penhome.matrices import composed, is_matrix, kept_matrix
+from penhome.totals import item_totals, narrowed
 
 
 def pivot_of(row):
@@ -42,11 +43,8 @@ def reduced(row, basis):
 
 
 def extended(basis, row):
-    """Return the canonical basis of a space with one row more."""
-    rest = reduced(row, basis)
-    if not any(rest):
-        return basis
-    rest = primitive(rest)
+    """Return the canonical basis of a space with one row more, which it lacks."""
+    rest = primitive(reduced(row, basis))
     at = pivot_of(rest)
     # Rows with a later pivot have 0 at this one already.
     ahead = [(pivot, primitive(cleared(other, at, rest))) for pivot, other in basis if pivot < at]
@@ -54,10 +52,26 @@ def extended(basis, row):
     return [*ahead, (at, rest), *behind]
 
 
+def independent(rows):
+    """Return the rows that are not combinations of those ahead of them."""
+    totals = item_totals(list(range(49)))
+    found = []
+    for row in rows:
+        rest = narrowed(totals, row)
+        if len(rest) < len(totals):
+            found.append(row)
+        totals = rest
+    return found
+
+
 def basis_of(rows):
     """Return the canonical basis, a list of tuples of a pivot and a row."""
+    found = independent(rows)
+    if len(found) == 49:
+        # All matrices have a basis that is known, and rows of great numbers lead to it slowly.
+        return [(at, [int(i == at) for i in range(49)]) for at in range(49)]
     basis = []
-    for row in rows:
+    for row in found:
         basis = extended(basis, row)
     return basis
 

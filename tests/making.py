@@ -36,24 +36,28 @@ NO_STATEMENTS = [thing for thing in NO_COMMANDS if not (
 ]
 
 
-def made_block(source, level, many, room):
+WORDS = ["command", "command", "keep", "either", "again", "call", "call", "end"]
+RICH_WORDS = ["command", "command", "command", "keep", "either", "either", "either", "again", "call", "call", "end"]
+
+
+def made_block(source, level, many, room, words):
     """Make a block; room is a list of the number of statements that the procedure may still get."""
     block = []
     for _ in range(source.choice([0, 1, 1, 2, 2, 3, 4])):
         if room[0] == 0:
             break
         room[0] -= 1
-        block.append(made_statement(source, level, many, room))
+        block.append(made_statement(source, level, many, room, words))
     return block
 
 
-def made_statement(source, level, many, room):
-    word = source.choice(["command", "command", "keep", "either", "again", "call", "call", "end"])
+def made_statement(source, level, many, room, words):
+    word = source.choice(words)
     if word == "end":
         return ("end", source.choice([0, 1]))
     if word == "command" or level == 3:
         return source.choice(SOME_COMMANDS)
-    blocks = [made_block(source, level + 1, many, room) for _ in range(2)]
+    blocks = [made_block(source, level + 1, many, room, words) for _ in range(2)]
     if word == "call":
         return ("call", source.randrange(many), source.choice([True, False]), blocks)
     if word == "either":
@@ -66,7 +70,21 @@ def made_bodies(seed):
     """Make the bodies of a book."""
     source = random.Random(seed)
     many = source.choice([1, 2, 3])
-    return [made_block(source, 0, many, [12]) for _ in range(many)]
+    return [made_block(source, 0, many, [12], WORDS) for _ in range(many)]
+
+
+def rich_bodies(seed):
+    """Make the bodies of a book whose procedures have runs, most of them more than one."""
+    source = random.Random(seed)
+    many = source.choice([1, 2, 2, 3])
+    bodies = []
+    for _ in range(many):
+        either = ("either", [source.choice(SOME_COMMANDS)], [source.choice(SOME_COMMANDS)])
+        body = [either, *made_block(source, 0, many, [6], RICH_WORDS)]
+        if source.choice([True, False]):
+            body.insert(source.randrange(len(body)), ("either", [], [source.choice(SOME_COMMANDS), ("end", 1)]))
+        bodies.append(body)
+    return bodies
 
 
 def blocks_in(statement):

@@ -6,6 +6,7 @@ Only rules that a few lines can see are checked here.
 import ast
 import builtins
 import pathlib
+import re
 import unittest
 
 PACKAGE = pathlib.Path(__file__).resolve().parent.parent / "penhome"
@@ -25,6 +26,24 @@ LIBRARY = {
     "__future__": ["annotations"],
 }
 
+# The methods of builtin values that the rules know.
+BUILTIN_METHODS = """
+    append clear copy count endswith extend find get index insert isalnum isalpha isdigit islower isspace isupper
+    items join keys ljust lower lstrip partition pop remove replace reverse rfind rjust rpartition rsplit rstrip
+    setdefault split splitlines startswith strip update upper values zfill bit_length
+""".split()
+
+# Names that stand nowhere, and words that stand in no code, strings included.
+BARRED_NAMES = """
+    register mro elements open input law version_info with_traceback add_note attrgetter breakpoint builtins compile
+    copyright credits delattr dir eval exec exit gc globals help id importlib license locals methodcaller os quit
+    type vars sys
+""".split()
+BARRED_WORDS = """
+    type typing typing_extensions enum Enum IntEnum StrEnum Flag IntFlag Generic Protocol ABC ABCMeta namedtuple
+    NamedTuple TypedDict TYPE_CHECKING abstractmethod _wall _WallAttr
+""".split()
+
 # What the interface lists under each file, as far as it has been built.
 INTERFACE = {
     "errors.py": """
@@ -36,6 +55,9 @@ INTERFACE = {
     "books.py": ["Book"],
     "runs.py": ["ran", "trace", "run_matrix"],
     "spaces.py": ["Space"],
+    "tables.py": ["table", "body_space", "table_fault", "basis_runs"],
+    "equations.py": ["decide", "equation_fault", "holds_fault", "named"],
+    "algebra.py": ["equations_of", "rounds", "breaking_round"],
 }
 
 # The methods that the interface lists for each class, under the names that Python gives to signs.
@@ -50,8 +72,22 @@ ARGUMENTS = {
     "composed": "one, other", "kept_matrix": "matrix",
     "ran": "book, procedure, bits, *, pen=HOME", "trace": "book, procedure, bits, *, pen=HOME",
     "run_matrix": "book, procedure, bits",
+    "table": "book", "body_space": "book, table, procedure, way", "table_fault": "book, thing",
+    "basis_runs": "book, procedure, way", "decide": "book, equation", "equation_fault": "book, equation, thing",
+    "holds_fault": "book, equations, thing", "named": "word, variables, *, parts=None",
+    "equations_of": "book, variables", "rounds": "book, procedure, way",
+    "breaking_round": "book, procedure, way, *, count",
     "bodies": "self", "calls": "self", "saved": "self, calls", "rows": "self", "kept": "self",
 }
+
+
+def without_remarks(text):
+    """Return a text without its docstrings and comments."""
+    tree = ast.parse(text)
+    for node in ast.walk(tree):
+        if isinstance(node, (ast.Module, ast.ClassDef, ast.FunctionDef)) and ast.get_docstring(node) is not None:
+            node.body[0].value.value = ""
+    return ast.unparse(tree)
 
 
 def files():
@@ -114,6 +150,81 @@ class Words(unittest.TestCase):
                     self.assertNotIn(node.id, dir(builtins))
                 elif isinstance(node, ast.arg):
                     self.assertNotIn(node.arg, dir(builtins))
+
+    def test_methods(self):
+        own = {node.name for _, node in nodes() if isinstance(node, ast.FunctionDef)}
+        for path, node in nodes():
+            if isinstance(node, ast.Call) and isinstance(node.func, ast.Attribute):
+                self.assertIn(node.func.attr, [*BUILTIN_METHODS, *own], path.name)
+
+    def test_attributes_that_are_read_are_assigned(self):
+        attributes = [node for _, node in nodes() if isinstance(node, ast.Attribute)]
+        own = {node.name for _, node in nodes() if isinstance(node, ast.FunctionDef)}
+        stored = {node.attr for node in attributes if isinstance(node.ctx, ast.Store)}
+        self.assertLessEqual({node.attr for node in attributes}, stored | own | set(BUILTIN_METHODS))
+
+    def test_no_local_name_is_that_of_a_class_or_an_import(self):
+        for path, tree in trees():
+            taken = {node.name for node in tree.body if isinstance(node, ast.ClassDef)}
+            taken |= {alias.name for node in tree.body if isinstance(node, ast.ImportFrom) for alias in node.names}
+            functions = [node for node in ast.walk(tree) if isinstance(node, ast.FunctionDef)]
+            for node in [each for function in functions for each in ast.walk(function)]:
+                if isinstance(node, ast.Name) and isinstance(node.ctx, ast.Store):
+                    self.assertNotIn(node.id, taken, path.name)
+                elif isinstance(node, ast.arg):
+                    self.assertNotIn(node.arg, taken, path.name)
+
+    def test_each_import_is_used_and_stands_where_it_is_defined(self):
+        for path, tree in trees():
+            used = {node.id for node in ast.walk(tree) if isinstance(node, ast.Name)}
+            for node in tree.body:
+                if isinstance(node, ast.ImportFrom):
+                    self.assertLessEqual({alias.name for alias in node.names}, used, path.name)
+                    self.assertEqual([alias.asname for alias in node.names], [None] * len(node.names))
+                    if node.module.startswith("penhome."):
+                        self.are_defined(node)
+
+    def are_defined(self, node):
+        tree = ast.parse((PACKAGE / (node.module.split(".")[1] + ".py")).read_text())
+        found = {each.name for each in tree.body if isinstance(each, (ast.FunctionDef, ast.ClassDef))}
+        found |= {each.targets[0].id for each in tree.body if isinstance(each, ast.Assign)}
+        self.assertLessEqual({alias.name for alias in node.names}, found)
+
+    def test_no_two_files_import_from_each_other(self):
+        modules = {path.stem: [node.module.split(".")[1] for node in tree.body if isinstance(node, ast.ImportFrom)
+                               and node.module.startswith("penhome.")] for path, tree in trees()}
+        while modules:
+            ready = [name for name, needed in modules.items() if not set(needed) & set(modules)]
+            self.assertNotEqual(ready, [], modules)
+            modules = {name: needed for name, needed in modules.items() if name not in ready}
+
+    def test_barred_words(self):
+        for path, node in nodes():
+            for field in ("id", "arg", "attr", "name"):
+                self.assertNotIn(getattr(node, field, None), BARRED_NAMES, path.name)
+        for path in files():
+            words = set(re.findall("[A-Za-z_]+", without_remarks(path.read_text())))
+            self.assertEqual(words & set(BARRED_WORDS), set(), path.name)
+            self.assertEqual(re.findall("dataclass|overload|contextmanager|metaclass=|Meta", path.read_text()), [])
+
+    def test_strings(self):
+        for path, node in nodes():
+            if isinstance(node, ast.Constant) and isinstance(node.value, str):
+                self.assertNotIn("%", node.value, path.name)
+                self.assertFalse(node.value.endswith(("._", ".__")), path.name)
+
+    def test_sets_are_not_stored(self):
+        for path, node in nodes():
+            if isinstance(node, ast.Assign):
+                self.assertNotIsInstance(node.value, (ast.Set, ast.SetComp), path.name)
+                self.assertFalse(ast.unparse(node.value).startswith("set("), path.name)
+
+    def test_values_are_compared_with_equality(self):
+        for path, node in nodes():
+            if isinstance(node, ast.Compare):
+                for sign, right in zip(node.ops, node.comparators):
+                    if isinstance(sign, (ast.Is, ast.IsNot)):
+                        self.assertIn(getattr(right, "value", "none"), [None, True, False], path.name)
 
     def test_no_floats_and_no_division(self):
         for path, node in nodes():
