@@ -52,7 +52,7 @@ def least_breaking(lists, left, right, parts):
     if left == right:
         return None
     indexes = chosen([list(range(len(pieces))) for pieces in lists])
-    choices = [[pieces[at] for pieces, at in zip(lists, choice)] for choice in indexes]
+    choices = [[pieces[number] for pieces, number in zip(lists, choice)] for choice in indexes]
     lengths = [sum([piece.length for piece in choice]) for choice in choices]
     for _, at in sorted([(length, at) for at, length in enumerate(lengths)]):
         if is_broken([piece.matrix for piece in choices[at]], left, right, parts):

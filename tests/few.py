@@ -13,8 +13,19 @@ IDENTITY = matrix_of(("go", 0))
 PROBES = [(0, 0, 0, 0, 0, 0)] + [tuple(int(at == number) for number in range(6)) for at in range(6)]
 
 
+# What has been found, by the text of what was asked: many tests ask the same again.
+KNOWN = {}
+
+
 def few_runs(bodies, procedure, most):
     """List the bits, way, length and matrix of all runs of at most so many bits."""
+    asked = repr((bodies, procedure, most))
+    if asked not in KNOWN:
+        KNOWN[asked] = found_runs(bodies, procedure, most)
+    return [(list(bits), way, length, list(matrix)) for bits, way, length, matrix in KNOWN[asked]]
+
+
+def found_runs(bodies, procedure, most):
     found, waiting = [], [[]]
     for bits in waiting:
         told = answer(bodies, procedure, bits)

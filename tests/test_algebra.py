@@ -74,13 +74,13 @@ class EquationsOf(unittest.TestCase):
 
     def test_made_books(self):
         found = 0
-        for seed in range(24):
+        for seed in range(16):
             book = Book(rich_bodies(seed) if seed % 2 else made_bodies(seed))
             for key in keys_of(book):
                 self.check(book, [key])
             for keys in product(keys_of(book), repeat=2):
                 found += 0 < self.check(book, list(keys)) < len(OF_TWO)
-        self.assertGreater(found, 25)
+        self.assertGreater(found, 15)
 
     def test_no_variables(self):
         book = Book([[GO], []])
@@ -223,12 +223,12 @@ class BreakingRounds(unittest.TestCase):
 
     def test_made_books(self):
         found = 0
-        for seed in range(50):
+        for seed in range(32):
             book = Book(rich_bodies(seed) if seed % 3 else made_bodies(seed))
             for key in keys_of(book):
                 for count in (1, 2, 3, 4, 6):
                     found += self.check(book, key, count, 5 if count < 4 else 3) is not None
-        self.assertGreater(found, 150)
+        self.assertGreater(found, 100)
 
     def test_the_lists_are_lists_of_their_own(self):
         book = Book([[("either", [], [GO])]])

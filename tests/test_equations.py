@@ -333,6 +333,22 @@ class Decisions(unittest.TestCase):
                 found = decide(Book([body]), ([(0, 0)], [0], [], parts))
                 self.assertEqual(found[0], "runs" if wrong & set(parts) else "holds")
 
+    def test_each_number_of_a_part(self):
+        # The runs of the two procedures leave pens that differ in one number alone.
+        for at, (first, second) in enumerate([
+                (("place", 1, 0), ("place", 2, 0)), (("place", 0, 1), ("place", 0, 2)),
+                (("aim", 1, 0), ("aim", 2, 0)), (("aim", 0, 1), ("aim", 0, 2))]):
+            book = Book([[first], [second]])
+            for part in range(3):
+                equation = ([(0, 0), (1, 0)], [0], [1], [part])
+                self.assertEqual(decide(book, equation)[0], "runs" if part == at // 2 else "holds")
+                self.assertEqual(equation_fault(book, equation, [[], []]), None if part == at // 2 else ("kept",))
+                self.assertEqual(holds_fault(book, [equation], table(book)), ("equation", 0) if part == at // 2 else None)
+        for one, other in [((1, 0), (2, 0)), ((0, 1), (0, 2))]:
+            book = Book([[("place", *one), MARK, ("place", 0, 0)], [("place", *other), MARK, ("place", 0, 0)]])
+            for part, wanted in [(0, "holds"), (1, "holds"), (2, "runs")]:
+                self.assertEqual(decide(book, ([(0, 0), (1, 0)], [0], [1], [part]))[0], wanted)
+
     def test_all_depths_of_recursion(self):
         deep = Book([[("either", [], [GO, call(0, False, [], []), ("go", -1)])]])
         self.assertEqual(decide(deep, named("home", [(0, 0)])), ("holds", table(deep)))
@@ -395,11 +411,11 @@ class Decisions(unittest.TestCase):
 
     def test_made_books(self):
         told = {"holds": 0, "runs": 0}
-        for seed in range(120):
+        for seed in range(70):
             bodies = rich_bodies(seed)
             for equation in some_equations(Book(bodies), seed, 4):
                 told[self.check(Book(bodies), equation, 6 if len(equation[0]) < 3 else 4)] += 1
-        self.assertGreater(min(told.values()), 60)
+        self.assertGreater(min(told.values()), 40)
 
     def test_more_made_books(self):
         for seed in range(40):

@@ -44,7 +44,7 @@ BARRED_WORDS = """
     NamedTuple TypedDict TYPE_CHECKING abstractmethod _wall _WallAttr
 """.split()
 
-# What the interface lists under each file, as far as it has been built.
+# What the interface lists under each file.
 INTERFACE = {
     "errors.py": """
         HomeError NoPen NoCommand NoProcedure NoWay NoPath NoTable NoVariables NoCount NoPart NoNumber
@@ -58,12 +58,17 @@ INTERFACE = {
     "tables.py": ["table", "body_space", "table_fault", "basis_runs"],
     "equations.py": ["decide", "equation_fault", "holds_fault", "named"],
     "algebra.py": ["equations_of", "rounds", "breaking_round"],
+    "saves.py": ["fewest_saves", "saves_fault"],
+    "swaps.py": ["can_swap", "swap_runs", "swapped"],
+    "live.py": ["Live"],
+    "texts.py": ["book_text", "read_book"],
 }
 
 # The methods that the interface lists for each class, under the names that Python gives to signs.
 METHODS = {
     "Book": "__init__ __len__ bodies __getitem__ __contains__ calls saved __eq__".split(),
     "Space": "__init__ rows __len__ __contains__ __add__ __mul__ kept __eq__".split(),
+    "Live": "__init__ pen __getitem__ __setitem__ __iadd__ __call__ kept __eq__".split(),
 }
 
 # How the interface lists the arguments.
@@ -77,7 +82,13 @@ ARGUMENTS = {
     "holds_fault": "book, equations, thing", "named": "word, variables, *, parts=None",
     "equations_of": "book, variables", "rounds": "book, procedure, way",
     "breaking_round": "book, procedure, way, *, count",
-    "bodies": "self", "calls": "self", "saved": "self, calls", "rows": "self", "kept": "self",
+    "fewest_saves": "book, equations", "saves_fault": "book, equations, thing",
+    "can_swap": "book, procedure, path", "swap_runs": "book, procedure, path", "swapped": "book, procedure, path",
+    "book_text": "book", "read_book": "text",
+    "Book.__init__": "self, bodies", "Book.bodies": "self", "Book.calls": "self", "Book.saved": "self, calls",
+    "Space.__init__": "self, rows", "Space.rows": "self", "Space.kept": "self",
+    "Live.__init__": "self, book, *, pen=HOME", "Live.pen": "self", "Live.__call__": "self, procedure, bits",
+    "Live.kept": "self, deed",
 }
 
 
@@ -272,6 +283,13 @@ class Interface(unittest.TestCase):
                 self.assertLessEqual(set(METHODS[node.name]), set(found))
 
     def test_arguments(self):
-        found = {node.name: ast.unparse(node.args) for _, node in nodes() if isinstance(node, ast.FunctionDef)}
+        found = {}
+        for _, tree in trees():
+            for node in tree.body:
+                if isinstance(node, ast.FunctionDef):
+                    found[node.name] = ast.unparse(node.args)
+                elif isinstance(node, ast.ClassDef):
+                    found.update({f"{node.name}.{each.name}": ast.unparse(each.args) for each in node.body
+                                  if isinstance(each, ast.FunctionDef)})
         for name, wanted in ARGUMENTS.items():
-            self.assertEqual(found[name], wanted)
+            self.assertEqual(found[name], wanted, name)

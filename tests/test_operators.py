@@ -118,7 +118,17 @@ class Calls(unittest.TestCase):
         for name in ["__add__", "__mul__"]:
             self.assertLessEqual({"__init__", "basis_of", "extended", "primitive", "pivot_of"}, reached[name])
         self.assertIn("composed", reached["__mul__"])
-        self.assertIn("reduced", reached["__contains__"])
+        self.assertLessEqual({"independent", "narrowed", "cancelled"}, reached["__add__"])
+
+    def test_each_operator_and_property_is_looked_at(self):
+        package = the_package()
+        names = [root.name for root in package.roots]
+        for name, many in [("__eq__", 3), ("__contains__", 2), ("__getitem__", 2), ("__len__", 2), ("__add__", 1), ("pen", 1)]:
+            self.assertEqual(names.count(name), many)
+        for root in package.roots:
+            if root.name == "__contains__":
+                reached = [each.name for each in package.reached(root)]
+                self.assertTrue("reduced" in reached or "statement_at" in reached)
 
 
 class ThisTestItself(unittest.TestCase):
