@@ -20,9 +20,9 @@ def value_of(total, matrix):
 
 def cancelled(total, times, other, less):
     """Return the total so many times, less the other so many times, in least numbers."""
-    numbers = {at: times * number for at, number in total}
-    for at, number in other:
-        numbers[at] = numbers.get(at, 0) - less * number
+    ahead = {at: times * number for at, number in total}
+    changed = {at: ahead.get(at, 0) - less * number for at, number in other}
+    numbers = {**ahead, **changed}
     divisor = 0
     for number in numbers.values():
         divisor = gcd(divisor, number)
